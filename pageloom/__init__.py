@@ -1,0 +1,1 @@
+"""Pageloom: a language of pages."""
