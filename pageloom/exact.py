@@ -71,10 +71,10 @@ def read_terms(word):
     if are_figures(word):
         return int(word), 1
     first, colon, second = word.partition(":")
-    if colon and are_figures(first) and are_figures(second):
+    if are_figures(first) and are_figures(second):
         return int(first), int(second)
     first, point, second = word.partition(".")
-    if point and are_figures(first) and are_figures(second):
+    if are_figures(first) and are_figures(second):
         return int(first + second), int("1" + "0" * len(second))
     return None
 

@@ -219,6 +219,17 @@ class IsItem(unittest.TestCase):
             with self.subTest(thing):
                 self.assertIs(is_item(thing), False)
 
+    def test_each_sign(self):
+        small = "abcdefghijklmnopqrstuvwxyz"
+        for sign in map(chr, range(400)):
+            with self.subTest(sign):
+                in_names = sign in small + "0123456789-"
+                self.assertIs(is_item(("do", sign)), sign in small + "[]")
+                self.assertIs(is_item(("name", sign)), sign in small)
+                self.assertIs(is_item(("do", "a" + sign)), in_names)
+                self.assertIs(is_item(("name", "a" + sign + "a")), in_names)
+                self.assertIs(is_item(("text", "a" + sign)), sign not in "()\n")
+
     def test_depth(self):
         for many in (1, 49, 50, 51, 60, 2000):
             item = nested(many)
@@ -356,6 +367,11 @@ class Together(Reading):
         for many in range(5):
             for signs in itertools.product("a0-:./()[{}# \n", repeat=many):
                 self.check("".join(signs))
+
+    def test_each_sign(self):
+        for sign in map(chr, range(400)):
+            for around in ("X", "aXa", "1X1", "/X", "/aXa", "(X)", "(a)X", "{X}", "[X]", "#X\na", "a\n X"):
+                self.check(around.replace("X", sign))
 
     def test_longer_texts(self):
         chance = random.Random(20)
