@@ -11,6 +11,11 @@ def is_whole(thing):
     return isinstance(thing, int) and not isinstance(thing, bool)
 
 
+def is_within(thing, least, most):
+    """Whether any thing is a whole number from least to most."""
+    return is_whole(thing) and least <= thing <= most
+
+
 def common_part(one, other):
     """The greatest whole number that divides both, neither of them below 0."""
     while other != 0:
@@ -52,10 +57,15 @@ def number(top, below=1):
     return made
 
 
-def text_of(thing):
-    """The text of a number."""
+def need_number(thing):
+    """Refuses any thing that is no number."""
     if not is_number(thing):
         raise NoNumber("this is no number")
+
+
+def text_of(thing):
+    """The text of a number."""
+    need_number(thing)
     top, below = thing
     return str(top) if below == 1 else f"{top}:{below}"
 
@@ -88,3 +98,48 @@ def read_number(word):
     if below == 0:
         return None
     return lowest(-top if word.startswith("-") else top, below)
+
+
+# The sums tell None where one of their numbers is None, so that a number that
+# had too many figures on the way is still told at the end of a longer sum.
+
+
+def plus(one, other):
+    """The sum of two numbers; None where it would have too many figures."""
+    if one is None or other is None:
+        return None
+    return lowest(one[0] * other[1] + other[0] * one[1], one[1] * other[1])
+
+
+def minus(one, other):
+    """What one number is more than another; None where it would have too many figures."""
+    if other is None:
+        return None
+    return plus(one, (-other[0], other[1]))
+
+
+def times(one, other):
+    """The product of two numbers; None where it would have too many figures."""
+    if one is None or other is None:
+        return None
+    return lowest(one[0] * other[0], one[1] * other[1])
+
+
+def over(one, other):
+    """The quotient of two numbers, the other one not 0; None where it would have too many figures."""
+    if one is None or other is None:
+        return None
+    return lowest(one[0] * other[1], one[1] * other[0])
+
+
+def is_less(one, other):
+    """Whether one number is less than another."""
+    return one[0] * other[1] < other[0] * one[1]
+
+
+def in_units(terms):
+    """Terms (top, below) as whole numbers of a unit that suits them all, in a list, and how many units come to 1."""
+    unit = 1
+    for top, below in terms:
+        unit = unit * below // common_part(unit, below)
+    return [top * (unit // below) for top, below in terms], unit

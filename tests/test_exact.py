@@ -6,7 +6,8 @@ import unittest
 from fractions import Fraction
 
 from pageloom.errors import NoNumber
-from pageloom.exact import is_number, number, read_number, text_of
+from pageloom.exact import (in_units, is_less, is_number, is_within, minus, number, over, plus, read_number, text_of,
+                            times)
 
 MOST = 10 ** 40 - 1
 MORE = 10 ** 40
@@ -163,6 +164,45 @@ class ReadNumber(unittest.TestCase):
         self.assertEqual(read_number("-" + "9" * 40 + "." + "0" * 40), (-MOST, 1))
         self.assertEqual(read_number("0." + "0" * 39 + "5"), (1, 2 * 10 ** 39))
         self.assertEqual(read_number("4" + "0" * 39 + ".5"), (8 * 10 ** 39 + 1, 2))
+
+
+class Sums(unittest.TestCase):
+    SMALL = tuple(number(top, below) for top in range(-6, 7) for below in range(1, 6) if math.gcd(top, below) == 1)
+
+    def test_by_fractions(self):
+        for one in self.SMALL:
+            for other in self.SMALL:
+                first, second = Fraction(*one), Fraction(*other)
+                for made, told in ((plus, first + second), (minus, first - second), (times, first * second)):
+                    self.assertEqual(made(one, other), (told.numerator, told.denominator))
+                if second:
+                    told = first / second
+                    self.assertEqual(over(one, other), (told.numerator, told.denominator))
+                self.assertIs(is_less(one, other), first < second)
+
+    def test_too_many_figures(self):
+        most, least = (MOST, 1), (1, MOST)
+        for made, one, other in ((plus, most, (1, 1)), (plus, least, (1, MOST - 1)), (minus, (-MOST, 1), (1, 1)),
+                                 (minus, (1, 1), (-MOST, 1)), (times, most, (2, 1)), (times, least, (1, 2)), (over, most, least),
+                                 (over, least, (2, 1)), (over, (1, 1), None), (over, None, (1, 1)), (plus, None, (1, 1)),
+                                 (plus, (1, 1), None), (minus, None, (1, 1)), (minus, (1, 1), None), (times, None, (0, 1)),
+                                 (times, (0, 1), None)):
+            self.assertIsNone(made(one, other))
+        self.assertEqual(plus((MOST - 1, 1), (1, 1)), most)
+        self.assertEqual(minus((-MOST + 1, 1), (1, 1)), (-MOST, 1))
+        self.assertEqual(times(most, least), (1, 1))
+        self.assertEqual(over(most, most), (1, 1))
+        self.assertEqual(over((1, 1), most), least)
+
+    def test_in_units(self):
+        self.assertEqual(in_units(((1, 2), (-1, 3), (5, 1))), ([3, -2, 30], 6))
+        self.assertEqual(in_units(((1, 4), (3, 8))), ([2, 3], 8))
+        self.assertEqual(in_units(((7, 1),)), ([7], 1))
+
+    def test_is_within(self):
+        for thing, told in ((2, True), (5, True), (3, True), (1, False), (6, False), (True, False), (None, False), ("3", False)):
+            self.assertIs(is_within(thing, 2, 5), told)
+        self.assertIs(is_within(True, 0, 2), False)
 
 
 if __name__ == "__main__":

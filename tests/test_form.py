@@ -69,6 +69,43 @@ class Trees(unittest.TestCase):
             self.assertRegex(node.module, r"^pageloom\.[a-z]+$", path.name)
             self.assertNotIn("*", [name.name for name in node.names], path.name)
 
+    def test_each_name_is_drawn_from_where_it_is_defined(self):
+        for path, node in in_each(ast.ImportFrom):
+            drawn = ast.parse((PACKAGE / (node.module.split(".")[1] + ".py")).read_text("utf-8"))
+            defined = {row.name for row in drawn.body if isinstance(row, (ast.FunctionDef, ast.ClassDef))}
+            defined |= {name.id for row in drawn.body if isinstance(row, ast.Assign) for name in row.targets}
+            self.assertEqual({name.name for name in node.names} - defined, set(), path.name)
+
+    def test_no_two_files_draw_from_one_another(self):
+        drawn = {path.stem: set() for path in FILES}
+        for path, node in in_each(ast.ImportFrom):
+            drawn[path.stem].add(node.module.split(".")[1])
+        while drawn:
+            free = [name for name, others in drawn.items() if not others & set(drawn)]
+            self.assertTrue(free, drawn)
+            for name in free:
+                del drawn[name]
+
+    def test_what_is_drawn_or_defined_keeps_its_name(self):
+        for path in FILES:
+            tree = ast.parse(path.read_text("utf-8"))
+            top = [name.asname or name.name for row in tree.body if isinstance(row, ast.ImportFrom) for name in row.names]
+            top += [row.name for row in tree.body if isinstance(row, (ast.FunctionDef, ast.ClassDef))]
+            top += [name.id for row in tree.body if isinstance(row, ast.Assign) for name in row.targets]
+            self.assertEqual(len(top), len(set(top)), path.name)
+            for row in tree.body:
+                if isinstance(row, (ast.FunctionDef, ast.ClassDef)):
+                    given = {node.id for node in ast.walk(row) if isinstance(node, ast.Name) and not isinstance(node.ctx, ast.Load)}
+                    given |= {node.arg for node in ast.walk(row) if isinstance(node, ast.arg)}
+                    self.assertEqual(given & set(top), set(), (path.name, row.name))
+
+    def test_what_is_drawn_is_used(self):
+        for path in FILES:
+            tree = ast.parse(path.read_text("utf-8"))
+            drawn = {name.name for row in tree.body if isinstance(row, ast.ImportFrom) for name in row.names}
+            used = {node.id for node in ast.walk(tree) if isinstance(node, ast.Name)}
+            self.assertEqual(drawn - used, set(), path.name)
+
     def test_functions_are_short_and_plain(self):
         for path, node in in_each((ast.FunctionDef, ast.Lambda)):
             self.assertLess(node.end_lineno - node.lineno, 40, (path.name, node.lineno))
