@@ -149,6 +149,32 @@ class Trees(unittest.TestCase):
             if isinstance(node.func, ast.Attribute):
                 self.assertIn(node.func.attr, METHODS | own, (path.name, node.lineno))
 
+    def test_methods_and_values_of_objects(self):
+        methods = {row.name for path, node in in_each(ast.ClassDef) for row in node.body if isinstance(row, ast.FunctionDef)}
+        attributes = [node for path, node in in_each(ast.Attribute)]
+        given = {node.attr for node in attributes if isinstance(node.ctx, ast.Store)}
+        called = {node.func.attr for path, node in in_each(ast.Call) if isinstance(node.func, ast.Attribute)}
+        asked = {node.attr for node in attributes if isinstance(node.ctx, ast.Load)}
+        self.assertEqual(methods & given, set())
+        self.assertEqual(asked - called - given, set())
+        python = {name for kind in (str, int, list, dict, set, bytes, tuple) for name in dir(kind)}
+        self.assertEqual((methods - TWO_UNDERSCORES) & python, set())
+        self.assertEqual(given & python, set())
+
+    def test_classes_are_plain(self):
+        for path, node in in_each(ast.ClassDef):
+            self.assertLessEqual(len(node.bases), 1, (path.name, node.name))
+            for row in node.body:
+                is_doc = isinstance(row, ast.Expr) and isinstance(row.value, ast.Constant)
+                self.assertTrue(is_doc or isinstance(row, ast.FunctionDef), (path.name, node.name))
+
+    def test_errors_are_taken_by_own_names(self):
+        own = {node.name for path, node in in_each(ast.ClassDef)}
+        for path, node in in_each(ast.ExceptHandler):
+            self.assertIn(ast.unparse(node.type), own, (path.name, node.lineno))
+        for path, node in in_each(ast.Raise):
+            self.assertIn(node.exc.func.id, own, (path.name, node.lineno))
+
 
 if __name__ == "__main__":
     unittest.main()
