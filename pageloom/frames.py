@@ -13,6 +13,7 @@ class Frame:
 
     def broken(self, desk):
         """What is due when this is over before its time: nothing, where nothing else is said."""
+        pass
 
 
 class Doing(Frame):

@@ -13,6 +13,24 @@ OF_KIND = {
     "null": "null", "save": "save",
 }
 
+# What each operator takes, as the document tells it: a letter for each kind.
+KINDS = {
+    "*": None, "n": "number", "b": "truth", "/": "name", "t": "text", "p": "proc", "a": "array", "d": "dict", "s": "save",
+}
+TAKEN = {
+    "pop": "*", "dup": "*", "exch": "**", "copy": "n", "index": "n", "roll": "nn", "clear": "", "count": "", "mark": "", "[": "",
+    "counttomark": "", "cleartomark": "", "eq": "**", "ne": "**", "lt": "**", "le": "**", "gt": "**", "ge": "**", "and": "bb",
+    "or": "bb", "not": "b", "true": "", "false": "", "null": "", "add": "nn", "sub": "nn", "mul": "nn", "div": "nn", "idiv": "nn",
+    "mod": "nn", "neg": "n", "abs": "n", "floor": "n", "ceiling": "n", "exec": "p", "if": "bp", "ifelse": "bpp", "repeat": "np",
+    "loop": "p", "for": "nnnp", "forall": "*p", "exit": "", "stop": "", "stopped": "p", "array": "n", "]": "", "length": "*",
+    "get": "**", "put": "***", "aload": "a", "astore": "a", "dict": "", "begin": "d", "end": "", "def": "/*", "load": "/",
+    "known": "d/", "undef": "d/", "currentdict": "", "save": "", "restore": "s", "gsave": "", "grestore": "", "translate": "nn",
+    "scale": "nn", "rotate": "n", "concat": "a", "transform": "nn", "itransform": "nn", "newpath": "", "moveto": "nn",
+    "lineto": "nn", "rmoveto": "nn", "rlineto": "nn", "curveto": "nnnnnn", "closepath": "", "rect": "nnnn", "currentpoint": "",
+    "pathbox": "", "setink": "n", "setwidth": "n", "fill": "", "eofill": "", "stroke": "", "clip": "", "eoclip": "",
+    "initclip": "", "erase": "", "showpage": "", "setfont": "d", "show": "t", "stringwidth": "t",
+}
+
 
 def do_on(desk, text, steps=20000):
     """Does a program on a desk, and tells how it ended."""

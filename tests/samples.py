@@ -94,3 +94,6 @@ NO_MATRICES = ODD_THINGS + NO_NUMBERS + (
     IDENTITY[:3] + ((1, MORE),) + IDENTITY[4:], (IDENTITY,), (IDENTITY[:3], IDENTITY[3:]), "abcdef", (IDENTITY,) * 6,
 )
 NO_RULES = (0, 1, True, False, None, "", "Odd", "odd ", "even", "wholeodd", ("odd",), ["odd"], [], (), (("odd",),))
+NO_TEXTS = (0, 1, True, False, None, [], ["1"], (), ("1",), [[]], ((((((1,),),),),),), b"1", ("1", "2"))
+# Texts that can not be read, with the row and the column at which they can not.
+UNREADABLE = (("1 2 }", 1, 5), ("1\n (a", 2, 2), ("{ { }", 1, 1), ("A", 1, 1), ("/", 1, 1), ("1 1a", 1, 3), ("\n\n  )", 3, 3))

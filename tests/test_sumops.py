@@ -5,30 +5,13 @@ import random
 import unittest
 from fractions import Fraction
 
-from benches import OF_KIND, Bench
+from benches import KINDS, OF_KIND, TAKEN, Bench
 from pageloom.desks import Desk, Fault
 from pageloom.exact import text_of
 from pageloom.kinds import PUTS, TAKES
 from pageloom.operators import perform
 from samples import MOST, num
 
-# What each operator takes, as the document tells it: a letter for each kind.
-KINDS = {
-    "*": None, "n": "number", "b": "truth", "/": "name", "t": "text", "p": "proc", "a": "array", "d": "dict", "s": "save",
-}
-TAKEN = {
-    "pop": "*", "dup": "*", "exch": "**", "copy": "n", "index": "n", "roll": "nn", "clear": "", "count": "", "mark": "", "[": "",
-    "counttomark": "", "cleartomark": "", "eq": "**", "ne": "**", "lt": "**", "le": "**", "gt": "**", "ge": "**", "and": "bb",
-    "or": "bb", "not": "b", "true": "", "false": "", "null": "", "add": "nn", "sub": "nn", "mul": "nn", "div": "nn", "idiv": "nn",
-    "mod": "nn", "neg": "n", "abs": "n", "floor": "n", "ceiling": "n", "exec": "p", "if": "bp", "ifelse": "bpp", "repeat": "np",
-    "loop": "p", "for": "nnnp", "forall": "*p", "exit": "", "stop": "", "stopped": "p", "array": "n", "]": "", "length": "*",
-    "get": "**", "put": "***", "aload": "a", "astore": "a", "dict": "", "begin": "d", "end": "", "def": "/*", "load": "/",
-    "known": "d/", "undef": "d/", "currentdict": "", "save": "", "restore": "s", "gsave": "", "grestore": "", "translate": "nn",
-    "scale": "nn", "rotate": "n", "concat": "a", "transform": "nn", "itransform": "nn", "newpath": "", "moveto": "nn",
-    "lineto": "nn", "rmoveto": "nn", "rlineto": "nn", "curveto": "nnnnnn", "closepath": "", "rect": "nnnn", "currentpoint": "",
-    "pathbox": "", "setink": "n", "setwidth": "n", "fill": "", "eofill": "", "stroke": "", "clip": "", "eoclip": "",
-    "initclip": "", "erase": "", "showpage": "", "setfont": "d", "show": "t", "stringwidth": "t",
-}
 # Operands that lead to other faults, too, where an operator would come to look at them.
 ODD = {"n": "-1:2", "b": "true", "/": "/add", "t": "(q)", "p": "{ }", "a": "3 array", "d": "dict", "s": "save dup restore"}
 
