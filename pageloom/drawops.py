@@ -357,3 +357,9 @@ DRAW_DEEDS = {
     "show": do_show,
     "stringwidth": do_stringwidth,
 }
+
+
+def do_drawing(desk, name, taken):
+    """Does the deed of one of these operators, and tells a list of the operands that it puts."""
+    deed = DRAW_DEEDS[name]
+    return deed(desk, taken)

@@ -250,8 +250,8 @@ def do_restore(desk, taken):
     number, made, since, desk.how, desk.kept = desk.saves[at]
     desk.saves = desk.saves[:at]
     was = held_then(desk, made, since)
-    for kept_number, place in was:
-        desk.write(kept_number, place, was[kept_number, place])
+    for (changed, place), old in was.items():
+        desk.write(changed, place, old)
     return []
 
 
@@ -284,3 +284,9 @@ FLOW_DEEDS = {
     "save": do_save,
     "restore": do_restore,
 }
+
+
+def do_flow(desk, name, taken):
+    """Does the deed of one of these operators, and tells a list of the operands that it puts."""
+    deed = FLOW_DEEDS[name]
+    return deed(desk, taken)

@@ -1,10 +1,10 @@
 """Operators, each done as a whole or, by a fault, not at all."""
 
 from pageloom.desks import Fault
-from pageloom.drawops import DRAW_DEEDS
-from pageloom.flowops import FLOW_DEEDS
+from pageloom.drawops import do_drawing
+from pageloom.flowops import FLOW_DEEDS, do_flow
 from pageloom.kinds import TAKES
-from pageloom.sumops import SUM_DEEDS
+from pageloom.sumops import SUM_DEEDS, do_sums
 
 
 def is_operator(name):
@@ -25,13 +25,10 @@ def taken_by(operands, kinds):
 def put_by(desk, name, taken):
     """Does an operator's deed, and tells a list of the operands that it puts."""
     if name in SUM_DEEDS:
-        sum_deed = SUM_DEEDS[name]
-        return sum_deed(desk, taken)
+        return do_sums(desk, name, taken)
     if name in FLOW_DEEDS:
-        flow_deed = FLOW_DEEDS[name]
-        return flow_deed(desk, taken)
-    draw_deed = DRAW_DEEDS[name]
-    return draw_deed(desk, taken)
+        return do_flow(desk, name, taken)
+    return do_drawing(desk, name, taken)
 
 
 def perform(desk, name):

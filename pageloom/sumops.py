@@ -276,3 +276,9 @@ SUM_DEEDS = {
     "floor": do_floor,
     "ceiling": do_ceiling,
 }
+
+
+def do_sums(desk, name, taken):
+    """Does the deed of one of these operators, and tells a list of the operands that it puts."""
+    deed = SUM_DEEDS[name]
+    return deed(desk, taken)
